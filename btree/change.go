@@ -75,6 +75,9 @@ func (c *change) put(key, v []byte) api.Errno {
 	switch {
 	case found && bytes.Equal(last.values[last.i], v):
 		return api.OK
+	case found && len(v) < len(last.values[last.i]):
+		last.values[last.i] = v
+		return c.shrink(way)
 	case found:
 		last.values[last.i] = v
 	default:
@@ -95,13 +98,26 @@ func (c *change) plant(n *node) api.Errno {
 	return api.OK
 }
 
-// grow keeps the last node of a way, to which something has come at a place. One that is too big is split, and one more comes to the node above it.
+// grow keeps the last node of a way, to which something has come at a place. One that is too big is divided anew with its neighbour, where that has room; else it is split, and one more comes to the node above it.
 func (c *change) grow(way []stop, place int) api.Errno {
 	for {
 		last := way[len(way)-1]
 		if last.fits() {
 			c.keep(last.at, last.node)
 			return api.OK
+		}
+		way = way[:len(way)-1]
+		if len(way) > 0 {
+			up := way[len(way)-1]
+			d, e := c.division(up, last)
+			if e != api.OK {
+				return e
+			}
+			if d != nil && !d.over {
+				c.divide(up, d)
+				place = d.place
+				continue
+			}
 		}
 		at, e := c.take()
 		if e != api.OK {
@@ -110,7 +126,6 @@ func (c *change) grow(way []stop, place int) api.Errno {
 		left, key, right := last.split(place)
 		c.keep(last.at, left)
 		c.keep(at, right)
-		way = way[:len(way)-1]
 		if len(way) == 0 {
 			return c.plant(&node{keys: [][]byte{key}, kids: []int{last.at, at}})
 		}
@@ -143,7 +158,7 @@ func (c *change) shrink(way []stop) api.Errno {
 			continue
 		}
 		if !last.leaf && len(last.keys) == 0 {
-			return c.divide(way)
+			return c.refill(way)
 		}
 		c.keep(last.at, last.node)
 		return api.OK
@@ -221,37 +236,52 @@ type division struct {
 	size       int  // of the greater one
 }
 
-// divide divides the last node of a way, which has no key any more, and one beside it anew. The key above changes, and may be longer.
-func (c *change) divide(way []stop) api.Errno {
-	last, up := way[len(way)-1], way[len(way)-2]
+func (d *division) better(than *division) bool {
+	if d.over != than.over {
+		return !d.over
+	}
+	return d.size < than.size
+}
+
+// division is the best one of the last node on a way and one beside it; nil, if two pages have no room for them.
+func (c *change) division(up, last stop) (*division, api.Errno) {
 	var best *division
 	for _, i := range beside(up) {
 		left, right, e := c.pair(up, i, last)
 		if e != api.OK {
-			return e
+			return nil, e
 		}
 		all := joined(left, up.keys[i], right)
 		room := api.PageSize - up.size() + len(up.keys[i])
-		for k := 1; k < len(all.keys)-1; k++ {
+		first, end := all.cuts()
+		for k := first; k <= end; k++ {
 			d := &division{place: i, cut: k, all: all, over: len(all.keys[k]) > room, size: all.greater(k)}
 			if d.size <= api.PageSize && (best == nil || d.better(best)) {
 				best = d
 			}
 		}
 	}
-	if best == nil {
-		return api.ErrTorn
-	}
-	left, key, right := best.all.cut(best.cut)
-	c.keep(up.kids[best.place], left)
-	c.keep(up.kids[best.place+1], right)
-	up.keys[best.place] = key
-	return c.grow(way[:len(way)-1], best.place)
+	return best, api.OK
 }
 
-func (d *division) better(than *division) bool {
-	if d.over != than.over {
-		return !d.over
+// divide keeps two nodes as they are divided anew; the key above changes, and may be longer.
+func (c *change) divide(up stop, d *division) {
+	left, key, right := d.all.cut(d.cut)
+	c.keep(up.kids[d.place], left)
+	c.keep(up.kids[d.place+1], right)
+	up.keys[d.place] = key
+}
+
+// refill takes keys for the last node of a way, which has none any more, from one beside it.
+func (c *change) refill(way []stop) api.Errno {
+	last, up := way[len(way)-1], way[len(way)-2]
+	d, e := c.division(up, last)
+	switch {
+	case e != api.OK:
+		return e
+	case d == nil:
+		return api.ErrTorn
 	}
-	return d.size < than.size
+	c.divide(up, d)
+	return c.grow(way[:len(way)-1], d.place)
 }

@@ -140,13 +140,17 @@ func joined(left *node, key []byte, right *node) *node {
 	return &node{keys: slices.Concat(left.keys, [][]byte{key}, right.keys), kids: slices.Concat(left.kids, right.kids)}
 }
 
+// cuts are the first and the last place where a node may be cut. Each side keeps one key at least; an inner node's key at the cut goes up.
+func (n *node) cuts() (int, int) {
+	if n.leaf {
+		return 1, len(n.keys) - 1
+	}
+	return 1, len(n.keys) - 2
+}
+
 // split is a node that is too big in two; at is the place of what has come to it. What has come at an end is parted from the others: keys that come in order leave full nodes behind.
 func (n *node) split(at int) (*node, []byte, *node) {
-	// An inner node's key at the cut goes up, and each side keeps one at least.
-	first, last := 1, len(n.keys)-1
-	if !n.leaf {
-		last--
-	}
+	first, last := n.cuts()
 	switch at {
 	case 0:
 		return n.cut(first)
