@@ -59,8 +59,9 @@ func (a *asker) query(q path.Query) *query {
 func (a *asker) selector(x path.Sel) selector {
 	out := selector{Sel: x}
 	if x.What == path.Filter && len(x.F) == 1 {
-		out.asks, out.number = a.expression(x.F[0]), a.filters
+		out.number = a.filters
 		a.filters++
+		out.asks = a.expression(x.F[0])
 	}
 	return out
 }
