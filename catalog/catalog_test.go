@@ -453,3 +453,10 @@ func TestAnyPages(t *testing.T) {
 		c.Used()
 	}
 }
+
+// The things are told by these numbers.
+func TestKinds(t *testing.T) {
+	if [4]int{catalog.Make, catalog.Kill, catalog.Put, catalog.Drop} != [4]int{1, 2, 3, 4} {
+		t.Error("kinds")
+	}
+}

@@ -804,3 +804,10 @@ func TestAnything(t *testing.T) {
 		}
 	}
 }
+
+// The things are told by these numbers.
+func TestKinds(t *testing.T) {
+	if [7]int{db.Make, db.Kill, db.Put, db.Drop, db.Set, db.Cut, db.Lay} != [7]int{1, 2, 3, 4, 5, 6, 7} {
+		t.Error("kinds")
+	}
+}

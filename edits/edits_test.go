@@ -257,6 +257,32 @@ func TestReplace(t *testing.T) {
 	}
 }
 
+// P12.2 and P12.3: an error of the value itself is ahead of what the whole would have.
+func TestErrorOfTheValueIsFirst(t *testing.T) {
+	v := api.Val{Kind: api.Obj, M: make([]api.Member, 2)} // a name twice
+	whole := api.Val{Kind: api.Arr}
+	for range 40 {
+		v, whole = api.Val{Kind: api.Arr, L: []api.Val{v}}, api.Val{Kind: api.Arr, L: []api.Val{whole}}
+	}
+	l := shredded(t, whole, 10)
+	if got, c, e := edits.Insert(l, 40, 0, "", v); got != nil || c != (edits.Cost{}) || e != api.ErrTwice {
+		t.Error(e)
+	}
+	if got, c, e := edits.Replace(l, 40, v); got != nil || c != (edits.Cost{}) || e != api.ErrTwice {
+		t.Error(e)
+	}
+	v.L[0] = api.Val{Kind: api.Arr}
+	for range 30 {
+		v = api.Val{Kind: api.Arr, L: []api.Val{v}}
+	}
+	if got, c, e := edits.Insert(l, 40, 0, "", v); got != nil || c != (edits.Cost{}) || e != api.ErrDeep {
+		t.Error(e)
+	}
+	if got, c, e := edits.Replace(l, 40, v); got != nil || c != (edits.Cost{}) || e != api.ErrDeep {
+		t.Error(e)
+	}
+}
+
 // P12.4: Spread.
 func TestSpread(t *testing.T) {
 	r := rand.New(rand.NewSource(1))

@@ -243,3 +243,10 @@ func TestAddedAndDropped(t *testing.T) {
 		}
 	}
 }
+
+// The kinds are told by these numbers.
+func TestKinds(t *testing.T) {
+	if [4]int{guide.Name, guide.Any, guide.Each, guide.Deep} != [4]int{1, 2, 3, 4} {
+		t.Error("kinds")
+	}
+}

@@ -16,7 +16,7 @@ import (
 func null() keys.Part         { return keys.Part{Kind: api.Null} }
 func truth(b bool) keys.Part  { return keys.Part{Kind: api.Bool, B: b} }
 func text(s string) keys.Part { return keys.Part{Kind: api.Str, S: s} }
-func whole(i int) keys.Part   { return keys.Part{Kind: keys.Whole, I: i} }
+func whole(i int) keys.Part   { return keys.Part{Kind: 9, I: i} }
 func num(neg bool, digits string, exp int) keys.Part {
 	return keys.Part{Kind: api.Num, N: api.Dec{Neg: neg, Digits: digits, Exp: exp}}
 }

@@ -104,6 +104,43 @@ func TestOpenOfRecords(t *testing.T) {
 	}
 }
 
+// P8.1 and P8.4: a page's number has two bytes, the high one first; a record's pages are by rising numbers, and laid once.
+func TestPagesOfGreatNumbers(t *testing.T) {
+	d := newDisk(t, 65536)
+	const log = 65536 - 8*4096
+	p := open(t, d, 4096, log)
+	names := map[int]string{4095: "last", 0: "zero", 256: "high", 255: "low", 1: "one", 3000: "far"}
+	for at, s := range names {
+		must(t, p.Write(at, []byte(s)))
+	}
+	for range 2 { // the second time there are pages that are not at home
+		before := d.Writes()
+		must(t, p.Commit())
+		if n := d.Writes() - before; n != journal.Need(514*len(names))+1 {
+			t.Error(n)
+		}
+		for at, s := range names {
+			must(t, p.Write(at, []byte(s)))
+		}
+	}
+	var want []byte
+	for _, at := range []int{0, 1, 255, 256, 3000, 4095} {
+		want = append(append(want, byte(at/256), byte(at%256)), page(names[at])...)
+	}
+	_, records, _ := journal.Open(d, 0, log)
+	if len(records) != 2 || !bytes.Equal(records[0], want) || !bytes.Equal(records[1], want) {
+		t.Error(len(records))
+	}
+	p = open(t, d, 4096, log)
+	for range 2 {
+		for at, s := range names {
+			holds(t, p, at, s)
+		}
+		holds(t, p, 257, "")
+		must(t, p.Checkpoint())
+	}
+}
+
 func TestOpenOfAnotherError(t *testing.T) {
 	d := newDisk(t, 20)
 	must(t, d.Write(0, []byte{165, 90, 255, 255, 255, 255, 0, 0, 0, 1, 0, 0, 0, 1, 0, 0}))

@@ -402,3 +402,13 @@ func TestAnyText(t *testing.T) {
 		t.Error(good)
 	}
 }
+
+// The kinds are told by these numbers.
+func TestKinds(t *testing.T) {
+	if [5]int{path.Name, path.Wild, path.Index, path.Slice, path.Filter} != [5]int{1, 2, 3, 4, 5} {
+		t.Error("selectors")
+	}
+	if [7]int{path.Or, path.And, path.Not, path.Cmp, path.Lit, path.Path, path.Call} != [7]int{1, 2, 3, 4, 5, 6, 7} {
+		t.Error("expressions")
+	}
+}

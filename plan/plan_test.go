@@ -239,3 +239,10 @@ func TestAnyIndex(t *testing.T) {
 		}
 	}
 }
+
+// The plans are told by these numbers.
+func TestNumbers(t *testing.T) {
+	if [3]int{plan.Walk, plan.Joins, plan.Index} != [3]int{1, 2, 3} {
+		t.Error("plans")
+	}
+}

@@ -84,8 +84,13 @@ func TestPretty(t *testing.T) {
 		}
 	}
 	for _, by := range []int{-1, 17, math.MinInt, math.MaxInt} {
-		if s, e := print.Pretty(api.Val{Kind: 9}, by); s != "" || e != api.ErrArg {
+		if s, e := print.Pretty(v, by); s != "" || e != api.ErrArg {
 			t.Errorf("%d: %q %v", by, s, e)
+		}
+		for _, v := range insane() {
+			if s, e := print.Pretty(v, by); s != "" || e != api.ErrArg {
+				t.Errorf("%d: %q %v", by, s, e)
+			}
 		}
 	}
 	for want, v := range insane() {

@@ -78,8 +78,10 @@ func TestShred(t *testing.T) {
 		t.Error(l)
 	}
 	for _, gap := range []int{0, -1, 1001, math.MaxInt, math.MinInt} {
-		if l, e := shred.Shred(api.Val{Kind: 9}, gap); l != nil || e != api.ErrArg {
-			t.Error(gap, e)
+		for _, v := range []api.Val{{}, {Kind: api.Obj, M: make([]api.Member, 2)}} {
+			if l, e := shred.Shred(v, gap); l != nil || e != api.ErrArg {
+				t.Error(gap, e)
+			}
 		}
 	}
 	deep := api.Val{Kind: api.Arr}
@@ -176,6 +178,7 @@ func TestSound(t *testing.T) {
 		{[]shred.Rec{rec(0, 1, 1, 0)}, false}, {[]shred.Rec{rec(0, 1, -1, 0)}, false}, {[]shred.Rec{rec(0, 1, 0, 6)}, false}, {[]shred.Rec{name("", rec(0, 1, 0, 0))}, false}, {[]shred.Rec{{End: 1, Name: "x"}}, false}, {[]shred.Rec{{End: 1, S: "x"}}, false}, {[]shred.Rec{{End: 1, Kind: api.Str, S: "\xff"}}, false}, {[]shred.Rec{{End: 1, Kind: api.Num, N: api.Dec{Digits: "10"}}}, false},
 		{[]shred.Rec{rec(0, 9, 0, 4), rec(1, 2, 1, 0), rec(3, 8, 1, 4), rec(4, 5, 2, 0)}, true}, {[]shred.Rec{rec(0, 9, 0, 4), rec(1, 2, 1, 0), rec(2, 8, 1, 4)}, false}, {[]shred.Rec{rec(0, 9, 0, 4), rec(1, 9, 1, 0)}, false}, {[]shred.Rec{rec(0, 9, 0, 4), rec(1, 10, 1, 0)}, false}, {[]shred.Rec{rec(1, 9, 0, 4), rec(1, 8, 1, 0)}, false}, {[]shred.Rec{rec(0, 9, 0, 4), rec(1, 2, 2, 0)}, false}, {[]shred.Rec{rec(0, 9, 0, 4), rec(1, 2, 0, 0)}, false}, {[]shred.Rec{rec(0, 9, 0, 0), rec(1, 2, 1, 0)}, false}, {[]shred.Rec{rec(0, 9, 0, 5), rec(1, 2, 1, 0)}, false}, {[]shred.Rec{rec(0, 9, 0, 4), name("a", rec(1, 2, 1, 0))}, false}, {[]shred.Rec{rec(0, 9, 0, 4), {Start: 1, End: 2, Level: 1, Name: "a"}}, false},
 		{[]shred.Rec{rec(0, 9, 0, 5), name("a", rec(1, 2, 1, 0)), name("b", rec(3, 4, 1, 0))}, true}, {[]shred.Rec{rec(0, 9, 0, 5), name("a", rec(1, 2, 1, 0)), name("a", rec(3, 4, 1, 0))}, false}, {[]shred.Rec{rec(0, 9, 0, 5), name("\xff", rec(1, 2, 1, 0))}, false}, {[]shred.Rec{rec(0, 9, 0, 5), name("b", rec(3, 4, 1, 0)), name("a", rec(1, 2, 1, 0))}, false}, {[]shred.Rec{rec(0, 9, 0, 4), rec(1, 2, math.MinInt, 0)}, false}, {[]shred.Rec{rec(0, 9, 0, 4), rec(1, 2, math.MaxInt, 0)}, false}, {make([]shred.Rec, 5000), false},
+		{[]shred.Rec{rec(0, 1, 0, 0), rec(2, 3, 0, 0)}, false}, {[]shred.Rec{rec(0, 3, 0, 4), rec(1, 2, 1, 0), rec(4, 5, 0, 0)}, false}, {[]shred.Rec{rec(0, 3, 0, 4), rec(1, 2, 1, 0), rec(4, 5, 1, 0)}, false},
 	} {
 		if shred.Sound(x.l) != x.sound {
 			t.Errorf("%d: %v", i, x.l)
@@ -265,7 +268,7 @@ func TestOfPlaces(t *testing.T) {
 			t.Errorf("Find %d: %d", i, n)
 		}
 	}
-	for i, steps := range [][]api.Step{{name("x")}, {at(0)}, {name("b"), at(3)}, {name("b"), at(-1)}, {name("b"), at(math.MaxInt)}, {name("b"), name("")}, {name("b"), at(0), at(0)}, {name("a"), at(0)}, {name("b"), at(2), name("")}} {
+	for i, steps := range [][]api.Step{{name("x")}, {at(0)}, {name("b"), at(3)}, {name("b"), at(-1)}, {name("b"), at(math.MaxInt)}, {name("b"), name("")}, {name("b"), at(0), at(0)}, {name("a"), at(0)}, {name("b"), at(2), name("")}, {name("x"), at(0)}, {name("b"), at(3), at(0)}, {at(0), name("b")}} {
 		if n := shred.Find(l, steps); n != -1 {
 			t.Errorf("%d: %d", i, n)
 		}

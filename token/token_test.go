@@ -59,6 +59,47 @@ func TestNextErrors(t *testing.T) {
 	}
 }
 
+// P15.1 and P15.3: what each byte begins, and what stands in a name, a number and a text.
+func TestEachByte(t *testing.T) {
+	if token.End != 0 || token.Name != 1 || token.Text != 2 || token.Number != 3 || token.Sign != 4 {
+		t.Error("kinds")
+	}
+	const letters = "abcdefghijklmnopqrstuvwxyzABCDEFGHIJKLMNOPQRSTUVWXYZ_"
+	const digits = "0123456789"
+	for c := range 128 {
+		s := string(rune(c))
+		letter, digit := strings.Contains(letters, s), strings.Contains(digits, s)
+		if token.IsName(s) != letter || token.IsName("a"+s) != (letter || digit) {
+			t.Errorf("%q: name", s)
+		}
+		got, e := token.Next(s, 0)
+		want := token.Token{Kind: token.Sign, S: s, To: 1}
+		switch {
+		case strings.Contains(" \t\n\r", s):
+			want = token.Token{From: 1, To: 1}
+		case letter:
+			want.Kind = token.Name
+		case s == "0":
+			want = token.Token{Kind: token.Number, To: 1}
+		case digit:
+			want = token.Token{Kind: token.Number, N: num(false, s, 0), To: 1}
+		case !strings.Contains("$@.,:;?*[](){}<>!=+-", s):
+			want = token.Token{}
+		}
+		if got != want || (e == api.OK) != (want != token.Token{}) || e != api.OK && e != api.ErrForm {
+			t.Errorf("%q: %v %v", s, got, e)
+		}
+		if digit && s != "0" {
+			if got, e := token.Next("-1."+s+"e"+s, 0); e != api.OK || got.N != num(true, "1"+s, c-'0'-1) || got.To != 6 {
+				t.Errorf("%q: %v %v", s, got, e)
+			}
+		}
+		if got, e := token.Next("'"+s+"a'", 0); c >= 32 && s != "'" && s != "\\" && (e != api.OK || got.S != s+"a" || got.To != 4) || c < 32 && e != api.ErrForm {
+			t.Errorf("%q: %v %v", s, got, e)
+		}
+	}
+}
+
 // P15.2: All.
 func TestAll(t *testing.T) {
 	l, e := token.All(" $..a[?@.x<=-1.5] ")

@@ -33,6 +33,14 @@ func nested(n int, v api.Val) api.Val {
 	return v
 }
 
+// inObjects is a value in so many Objs.
+func inObjects(n int, v api.Val) api.Val {
+	for range n {
+		v = object(member("a", v))
+	}
+	return v
+}
+
 // many is an Arr of so many values.
 func many(n int) api.Val { return list(make([]api.Val, n)...) }
 
@@ -93,6 +101,7 @@ func TestSaneOfDepthAndCount(t *testing.T) {
 		e api.Errno
 	}{
 		{nested(64, null()), 0}, {nested(63, object()), 0}, {nested(64, list()), 3}, {nested(64, object()), 3}, {nested(65, null()), 3}, {nested(60000, null()), 3},
+		{inObjects(64, null()), 0}, {inObjects(64, list()), 3}, {inObjects(65, null()), 3}, {inObjects(60000, null()), 3}, {inObjects(32, nested(32, null())), 0}, {inObjects(32, nested(32, object())), 3}, {nested(32, inObjects(32, list())), 3},
 		{nested(64, text("\xff")), 1}, {nested(64, object(member("\xff", null()))), 1}, {nested(64, object(member("a", null()), member("a", null()))), 7},
 		{many(4095), 0}, {many(4096), 4}, {many(100000), 4}, {list(many(4093), null()), 0}, {list(many(4093), null(), null()), 4},
 		{list(many(4094), text("\xff")), 1}, {list(many(4095), text("\xff")), 4}, {list(many(4093), nested(70, null())), 4}, {list(many(4000), nested(70, null())), 3}, {list(nested(70, null()), many(5000)), 3}, {list(many(4094), object(member("a", null()), member("a", null()))), 7},
