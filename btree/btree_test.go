@@ -221,16 +221,16 @@ func TestErrors(t *testing.T) {
 	s := open(t, p)
 	key := []byte("k")
 	for _, tree := range []int{-1, 8, math.MaxInt, math.MinInt} {
-		if _, _, e := s.Get(tree, key); e != api.ErrArg {
+		if v, ok, e := s.Get(tree, key); v != nil || ok || e != api.ErrArg {
 			t.Error(e)
 		}
 		if e := s.Put(tree, key, nil); e != api.ErrArg {
 			t.Error(e)
 		}
-		if _, e := s.Delete(tree, key); e != api.ErrArg {
+		if ok, e := s.Delete(tree, key); ok || e != api.ErrArg {
 			t.Error(e)
 		}
-		if _, e := s.Range(tree, nil, nil, 1); e != api.ErrArg {
+		if l, e := s.Range(tree, nil, nil, 1); l != nil || e != api.ErrArg {
 			t.Error(e)
 		}
 		if e := s.Check(tree); e != api.ErrArg {
@@ -241,13 +241,13 @@ func TestErrors(t *testing.T) {
 		}
 	}
 	for _, k := range [][]byte{nil, {}, make([]byte, 97), make([]byte, 300)} {
-		if _, _, e := s.Get(0, k); e != api.ErrArg {
+		if v, ok, e := s.Get(0, k); v != nil || ok || e != api.ErrArg {
 			t.Error(e)
 		}
 		if e := s.Put(0, k, nil); e != api.ErrArg {
 			t.Error(e)
 		}
-		if _, e := s.Delete(0, k); e != api.ErrArg {
+		if ok, e := s.Delete(0, k); ok || e != api.ErrArg {
 			t.Error(e)
 		}
 	}
@@ -277,16 +277,16 @@ func TestErrors(t *testing.T) {
 
 func TestNone(t *testing.T) {
 	for _, s := range []*btree.Store{nil, {}} {
-		if _, _, e := s.Get(0, []byte("k")); e != api.ErrCrash {
+		if v, ok, e := s.Get(0, []byte("k")); v != nil || ok || e != api.ErrCrash {
 			t.Error(e)
 		}
 		if e := s.Put(0, []byte("k"), nil); e != api.ErrCrash {
 			t.Error(e)
 		}
-		if _, e := s.Delete(0, []byte("k")); e != api.ErrCrash {
+		if ok, e := s.Delete(0, []byte("k")); ok || e != api.ErrCrash {
 			t.Error(e)
 		}
-		if _, e := s.Range(0, nil, nil, 1); e != api.ErrCrash {
+		if l, e := s.Range(0, nil, nil, 1); l != nil || e != api.ErrCrash {
 			t.Error(e)
 		}
 		if e := s.Check(0); e != api.ErrCrash {
@@ -590,6 +590,15 @@ func TestDeleteMaySplit(t *testing.T) {
 	}
 }
 
+// entriesToTheEnd are eight of a leaf, of which the last one has no room for all of its bytes.
+func entriesToTheEnd() string {
+	var b strings.Builder
+	for i := range 8 {
+		b.WriteString("\x01\x40" + string(rune('m'+i)) + strings.Repeat("v", 64))
+	}
+	return b.String()[:api.PageSize-3]
+}
+
 // P10.4: Check.
 func TestCheck(t *testing.T) {
 	head := []byte{79, 82, 0, 6, 0, 0, 0, 3}
@@ -617,6 +626,8 @@ func TestCheck(t *testing.T) {
 		{map[int]string{2: "\x01\x00\x01\x61\x00" + strings.Repeat("m", 97)}, 11},                // a long key
 		{map[int]string{2: "\x01\x00\x01\x01\x41m" + strings.Repeat("m", 65)}, 11},               // a long value
 		{map[int]string{2: "\x01\x02\x00" + strings.Repeat("\x01\x00m", 160)}, 11},               // more entries than there are
+		{map[int]string{2: "\x01\x00\x08" + entriesToTheEnd()}, 11},                              // an entry goes over the end
+		{map[int]string{3: "\x03\x00\x01\x00\x01\x01m\x00\x02"}, 11},                             // another kind, with kids
 		{map[int]string{3: "\x02\x00\x01\x00\x01\x01m\x00\x01"}, 11},                             // a page twice
 		{map[int]string{3: "\x02\x00\x01\x00\x01\x01m\x00\x03"}, 11},                             // a ring
 		{map[int]string{3: "\x02\x00\x01\x00\x01\x01m\x00\x06"}, 11},                             // a page that was never used
@@ -640,6 +651,150 @@ func TestCheck(t *testing.T) {
 			t.Errorf("%d: %v", i, e)
 		}
 	}
+}
+
+// P10.2: what is torn is told, and nothing beside it.
+func TestTorn(t *testing.T) {
+	for i, pages := range []map[int]string{
+		{3: "\x02\x00\x01\x00\x00\x01m\x00\x00"}, {3: "\x02\x00\x01\x00\x03\x01m\x00\x03"}, {3: "\x02\x00\x01\x00\x07\x01m\x00\x08"}, {3: "\x05"}, {1: "\x00", 2: "\x00"}, {3: "\x02\x00\x00\x00\x01"},
+	} {
+		p := newPager(t, 9)
+		must(t, p.Write(0, []byte{79, 82, 0, 6, 0, 0, 0, 3}))
+		must(t, p.Write(3, []byte("\x02\x00\x01\x00\x01\x01m\x00\x02")))
+		for at, b := range pages {
+			must(t, p.Write(at, []byte(b)))
+		}
+		must(t, p.Commit())
+		s := open(t, p)
+		for _, key := range []string{"a", "z"} {
+			if v, ok, e := s.Get(0, []byte(key)); v != nil || ok || e != api.ErrTorn {
+				t.Error(i, v, ok, e)
+			}
+			if e := s.Put(0, []byte(key), nil); e != api.ErrTorn {
+				t.Error(i, e)
+			}
+			if ok, e := s.Delete(0, []byte(key)); ok || e != api.ErrTorn {
+				t.Error(i, ok, e)
+			}
+		}
+		if l, e := s.Range(0, nil, nil, 9); l != nil || e != api.ErrTorn {
+			t.Error(i, l, e)
+		}
+		if e := s.Check(0); e != api.ErrTorn || p.Dirty() != 0 {
+			t.Error(i, e)
+		}
+	}
+}
+
+// P10.2: an error of the pager's is told, and nothing beside it.
+func TestDiskIsGone(t *testing.T) {
+	for i, done := range []func(s *btree.Store) (bool, api.Errno){
+		func(s *btree.Store) (bool, api.Errno) {
+			v, ok, e := s.Get(0, []byte("k\x05"))
+			return v == nil && !ok, e
+		},
+		func(s *btree.Store) (bool, api.Errno) {
+			l, e := s.Range(0, nil, nil, 99)
+			return l == nil, e
+		},
+		func(s *btree.Store) (bool, api.Errno) {
+			ok, e := s.Delete(0, []byte("k\x05"))
+			return !ok, e
+		},
+		func(s *btree.Store) (bool, api.Errno) { return true, s.Put(0, []byte("k\x05"), nil) },
+		func(s *btree.Store) (bool, api.Errno) { return true, s.Check(0) },
+	} {
+		d, e := disk.New(400)
+		must(t, e)
+		p, e := pager.Open(d, 20, 200)
+		must(t, e)
+		s := open(t, p)
+		for k := range 20 {
+			must(t, s.Put(0, []byte{'k', byte(k)}, make([]byte, 64)))
+		}
+		must(t, p.Commit())
+		must(t, p.Checkpoint())
+		// Page 0 is read from memory, all others from their homes.
+		head, _ := p.Read(0)
+		must(t, p.Write(0, head))
+		d.Limit(0)
+		d.Sync()
+		if nothing, e := done(s); !nothing || e != api.ErrCrash {
+			t.Error(i, nothing, e)
+		}
+	}
+}
+
+// P1: a ring of free pages ends.
+func TestRingOfFreePages(t *testing.T) {
+	p := newPager(t, 9)
+	must(t, p.Write(0, []byte{79, 82, 0, 4, 0, 2, 0, 1}))
+	must(t, p.Write(1, []byte("\x01\x00\x01\x01\x01aA")))
+	must(t, p.Write(2, []byte{0, 3}))
+	must(t, p.Write(3, []byte{0, 2}))
+	s := open(t, p)
+	s.Used()
+	s.Put(1, []byte("k"), nil)
+	s.Delete(0, []byte("a"))
+}
+
+// P10.1 to P10.5: numbers of pages have two bytes.
+func TestManyPages(t *testing.T) {
+	d, e := disk.New(65536)
+	must(t, e)
+	p, e := pager.Open(d, 4096, 65536-8*4096)
+	must(t, e)
+	s := open(t, p)
+	key := func(i int) []byte { return append(bytes.Repeat([]byte{'k'}, 94), byte(i>>8), byte(i)) }
+	var m model
+	for i := range 2400 {
+		n := i * 1009 % 2400
+		must(t, s.Put(n%2, key(n), bytes.Repeat([]byte{byte(n)}, 64)))
+		if n%2 == 1 {
+			m = append(m, btree.Entry{Key: key(n), V: bytes.Repeat([]byte{byte(n)}, 64)})
+		}
+	}
+	if s.Used() < 700 {
+		t.Fatal(s.Used())
+	}
+	slices.SortFunc(m, func(a, b btree.Entry) int { return bytes.Compare(a.Key, b.Key) })
+	sound(t, s, p, 1, m)
+	for i := range 2400 {
+		if n := i * 1013 % 2400; n%2 == 0 {
+			if ok, e := s.Delete(0, key(n)); !ok || e != api.OK {
+				t.Fatal(ok, e)
+			}
+		}
+	}
+	sound(t, s, p, 0, nil)
+	sound(t, s, p, 1, m)
+	must(t, p.Commit())
+	head, _ := p.Read(0)
+	if head[2] < 2 || head[4] == 0 || head[8] == 0 {
+		t.Error(head[:10])
+	}
+	p, e = pager.Open(d, 4096, 65536-8*4096)
+	must(t, e)
+	sound(t, open(t, p), p, 1, m)
+}
+
+// P10.4: an empty tree may have a node, without an entry.
+func TestEmptyNode(t *testing.T) {
+	p := newPager(t, 9)
+	must(t, p.Write(0, []byte{79, 82, 0, 2, 0, 0, 0, 1}))
+	must(t, p.Write(1, []byte{1, 0, 0}))
+	s := open(t, p)
+	if s.Check(0) != api.OK || s.Height(0) != 0 || s.Used() != 2 {
+		t.Error(s.Check(0), s.Height(0), s.Used())
+	}
+	if l, e := s.Range(0, nil, nil, 9); len(l) != 0 || e != api.OK {
+		t.Error(l, e)
+	}
+	if v, ok, e := s.Get(0, []byte("a")); v != nil || ok || e != api.OK {
+		t.Error(v, ok, e)
+	}
+	must(t, s.Put(0, []byte("a"), []byte("A")))
+	sound(t, s, p, 0, model{{Key: []byte("a"), V: []byte("A")}})
 }
 
 func TestHeight(t *testing.T) {
