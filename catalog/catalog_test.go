@@ -224,6 +224,43 @@ func TestGet(t *testing.T) {
 	}
 }
 
+// What lies in the trees and is not of the document's keys is torn.
+func TestTornKeys(t *testing.T) {
+	key := func(l ...keys.Part) []byte {
+		b, _ := keys.Encode(l)
+		return b
+	}
+	name := keys.Part{Kind: api.Str, S: "a"}
+	whole := func(i int) keys.Part { return keys.Part{Kind: keys.Whole, I: i} }
+	for i, x := range []struct {
+		tree            int
+		key, v          []byte
+		get, ids, colls api.Errno
+	}{
+		{0, key(name, whole(1), whole(2)), nil, 11, 0, 0}, {0, key(name, whole(1), whole(0)), []byte("short"), 11, 0, 0}, {0, key(name, whole(3)), nil, 0, 11, 0}, {0, key(name, name, whole(0)), nil, 0, 11, 0}, {0, append(key(name), 7), nil, 0, 11, 0},
+		{1, []byte("x"), nil, 0, 0, 11}, {1, key(name, name), nil, 0, 0, 11}, {1, key(keys.Part{Kind: api.Str, S: "1"}), nil, 0, 0, 11}, {1, key(keys.Part{}), nil, 0, 0, 11},
+	} {
+		c, p := open(t, newDisk(t, 1000), 60, 500)
+		must(t, c.Do([]catalog.Op{made("a"), put("a", 1, strings.Repeat("x", 65))}))
+		s, e := btree.Open(p)
+		must(t, e)
+		if i == 0 {
+			_, e = s.Delete(0, key(name, whole(1), whole(0)))
+			must(t, e)
+		}
+		must(t, s.Put(x.tree, x.key, x.v))
+		if text, ok, e := c.Get("a", 1); e != x.get || ok != (e == api.OK) || e != api.OK && text != "" {
+			t.Error(i, text, ok, e)
+		}
+		if l, e := c.IDs("a"); e != x.ids || e != api.OK && l != nil {
+			t.Error(i, l, e)
+		}
+		if l, e := c.Colls(); e != x.colls || e != api.OK && l != nil {
+			t.Error(i, l, e)
+		}
+	}
+}
+
 // P23.4: what Open did not make, and a disk that is gone.
 func TestNone(t *testing.T) {
 	d := newDisk(t, 1000)

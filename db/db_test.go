@@ -209,6 +209,19 @@ func TestOpen(t *testing.T) {
 	if x, e := db.Open(d, 4, 60); x != nil || e != api.ErrTorn {
 		t.Error(e)
 	}
+	// The trees of collections and of texts are read, too.
+	for _, at := range []int{1, 2} {
+		d := newDisk(t, 1000)
+		x := open(t, d, 60, 500)
+		must(t, x.Do([]db.Op{made("a"), put("a", 1, "1")}))
+		p, e := pager.Open(d, 60, 500)
+		must(t, e)
+		must(t, p.Write(at, []byte{9}))
+		must(t, p.Commit())
+		if x, e := db.Open(d, 60, 500); x != nil || e != api.ErrTorn {
+			t.Error(at, e)
+		}
+	}
 }
 
 func TestOpenOfTexts(t *testing.T) {
@@ -250,7 +263,7 @@ func TestDo(t *testing.T) {
 		{[]db.Op{{What: 0, Coll: "z"}}, 1}, {[]db.Op{{What: 8, Coll: "z"}}, 1}, {[]db.Op{{What: -1}}, 1}, {[]db.Op{{What: 8, Coll: "a", ID: 1}}, 1},
 		{[]db.Op{kill("z")}, 6}, {[]db.Op{drop("z", 1)}, 6}, {[]db.Op{put("z", -1, "x")}, 6}, {[]db.Op{set("z", 1, val("1"))}, 6}, {[]db.Op{cut("z", 1)}, 6}, {[]db.Op{lay("z", 1, 0, "", val("1"))}, 6}, {[]db.Op{kill("")}, 6},
 		// Put.
-		{[]db.Op{put("a", -1, "x")}, 1}, {[]db.Op{put("a", 1<<32, "1")}, 1}, {[]db.Op{put("a", math.MinInt, "1")}, 1}, {[]db.Op{put("a", 2, "")}, 2}, {[]db.Op{put("a", 2, "1 2")}, 2}, {[]db.Op{put("a", 2, strings.Repeat("[", 65))}, 3}, {[]db.Op{put("a", 2, strings.Repeat(" ", 65537))}, 4}, {[]db.Op{put("a", 2, `{"a":1,"a":2}`)}, 7}, {[]db.Op{put("a", 1<<32-1, "true"), put("a", 0, "[]")}, 0},
+		{[]db.Op{put("a", -1, "x")}, 1}, {[]db.Op{put("a", 1<<32, "1")}, 1}, {[]db.Op{put("a", math.MinInt, "1")}, 1}, {[]db.Op{put("a", 1<<32, "x")}, 1}, {[]db.Op{put("a", 1<<32, "1"), {What: 9}, kill("z")}, 1}, {[]db.Op{put("a", 1<<32, "1"), drop("a", 1<<32), kill("z")}, 1}, {[]db.Op{made(long + "n"), kill("z")}, 1}, {[]db.Op{made(long + "n"), kill(long + "n")}, 1}, {[]db.Op{put("a", 2, "")}, 2}, {[]db.Op{put("a", 2, "1 2")}, 2}, {[]db.Op{put("a", 2, strings.Repeat("[", 65))}, 3}, {[]db.Op{put("a", 2, strings.Repeat(" ", 65537))}, 4}, {[]db.Op{put("a", 2, `{"a":1,"a":2}`)}, 7}, {[]db.Op{put("a", 1<<32-1, "true"), put("a", 0, "[]")}, 0},
 		// Drop.
 		{[]db.Op{drop("a", 5)}, 6}, {[]db.Op{drop("a", -1)}, 6}, {[]db.Op{drop("a", math.MaxInt)}, 6}, {[]db.Op{drop("a", 0), drop("a", 0)}, 6}, {[]db.Op{drop("a", 0)}, 0},
 		// Set: {"a":{},"b":[2,1]} of 1.
@@ -603,6 +616,9 @@ func TestNone(t *testing.T) {
 		}
 		d.Reopen(nil)
 		return x
+	}
+	if e := (&db.DB{}).Do([]db.Op{{What: 99}}); e != api.ErrCrash {
+		t.Error(e)
 	}
 	for i, x := range []*db.DB{
 		nil, {}, crash((*db.DB).Checkpoint),

@@ -132,6 +132,10 @@ func TestParseErrors(t *testing.T) {
 		{"for $ return {'a':@,'a':@}", 7}, {"for $ return {'a':@,\"a\":@.b}", 7}, {"for $ return {'a':@,'\\u0061':@}", 7}, {"for $ return {'a':@,'a':1}", 8}, {"for $ return {'a':@,'a':@} x", 7}, {"for $ return {'a':@,'a':$}", 2}, {"for $ return {'a':1,'a':@", 8}, {"for $ return {'a':1", 8}, {"for $ return {'a':@,'b':@,'a':@", 7}, {"for $ return {'a':@,'b':@,'a' @", 2},
 		// part by part, in the text's order
 		{"for $[?1] where @.a,1 return @", 8}, {"for $. where 1 return @", 2}, {"for $ where 1 limit x return @", 8}, {"for $ limit x return 1", 2}, {"for $ order by 1 limit x return @", 8}, {"for $ order by @.* limit x return @", 8}, {"for $ limit 4097 return {'a':@,'a':@}", 2}, {"for $[?1] order return @", 2}, {"for $[?1] return", 2},
+		// no words: what stands in parentheses, brackets and braces; signs of whatever kind open and close
+		{"for $[?1] where (by) return @", 8}, {"for $[?1] where @[by] return @", 8}, {"for $[?1] return {by}", 8}, {"for $[?1] where (@.a] return @", 8}, {"for $[?1) where @ return @", 2}, {"for $[?1] where @) return @", 2}, {"for $[?1] where {@) return @", 8}, {"for $[?1] where [@} return @", 8}, {"for $[?1] where (by} return @", 8}, {"for $[?1] where )limit( return @", 8},
+		// what stands in a Text is no sign
+		{"for $ return '{'", 8}, {"for $ return {@", 2}, {"for $ return {'a'", 2}, {"for $ return {1", 2}, {"for $ return {'}'", 2}, {"for $ return {'a'':'@}", 2}, {"for $ return {'a':@'}'", 2}, {"for $ return {'a':@','b':@}", 2}, {"for $[?1] where '(' return @", 8}, {"for $[?1] where ')' return @", 8}, {"for '.' where @ return @", 2},
 	} {
 		q, e := flwor.Parse(x.s)
 		if e != x.e || !reflect.DeepEqual(q, flwor.Query{}) {

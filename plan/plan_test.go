@@ -220,6 +220,16 @@ func TestAnyIndex(t *testing.T) {
 	for _, change := range []func(*streams.Index){
 		func(x *streams.Index) { x.Lines = nil }, func(x *streams.Index) { x.G = guide.Guide{} }, func(x *streams.Index) { x.Lines = [][]int{{0}, {0, 1, 2}} }, func(x *streams.Index) { x.Lines = [][]int{{0, 0, 0, 0}, {1, 1, 1}} }, func(x *streams.Index) { x.Docs = []streams.Doc{good.Docs[1], good.Docs[0]} }, func(x *streams.Index) { x.Docs = []streams.Doc{good.Docs[0], good.Docs[0]} },
 		func(x *streams.Index) { x.G.L = append(slices.Clone(x.G.L), x.G.L...) }, func(x *streams.Index) { x.Docs = []streams.Doc{{ID: 1, L: bad}} }, func(x *streams.Index) { x.Docs = []streams.Doc{{ID: 1}} }, func(x *streams.Index) { x.G.Next = 0 }, func(x *streams.Index) { x.Lines = [][]int{{9, 9, 9, 9}, {-1, 7, 8}} },
+		func(x *streams.Index) {
+			x.Docs, x.Lines = []streams.Doc{good.Docs[1], good.Docs[0]}, [][]int{good.Lines[1], good.Lines[0]}
+		},
+		func(x *streams.Index) {
+			x.Docs, x.Lines = []streams.Doc{good.Docs[1], good.Docs[1], good.Docs[0]}, [][]int{good.Lines[1], good.Lines[1], good.Lines[0]}
+		},
+		func(x *streams.Index) { x.Lines = [][]int{good.Lines[0][:2], good.Lines[1]} }, func(x *streams.Index) { x.Lines = [][]int{nil, good.Lines[1]} }, func(x *streams.Index) { x.Lines = [][]int{good.Lines[1], good.Lines[0]} },
+		func(x *streams.Index) { x.Docs, x.Lines = []streams.Doc{{ID: 1, L: bad}}, [][]int{good.Lines[0]} }, func(x *streams.Index) {
+			x.Docs, x.Lines = []streams.Doc{{ID: 0}, good.Docs[0]}, [][]int{nil, good.Lines[0]}
+		},
 	} {
 		x := good
 		change(&x)
