@@ -125,17 +125,23 @@ func (t *draft) kill(op Op) api.Errno {
 	return api.OK
 }
 
-func (t *draft) drop(op Op) api.Errno {
+// held is a document that is there, and its collection.
+func (t *draft) held(op Op) (*coll, doc, api.Errno) {
 	l, e := t.there(op.Coll)
 	if e != api.OK {
-		return e
+		return nil, doc{}, e
 	}
 	d, e := t.doc(l, op.Coll, op.ID)
-	switch {
-	case e != api.OK:
+	if e == api.OK && !d.is {
+		e = api.ErrName
+	}
+	return l, d, e
+}
+
+func (t *draft) drop(op Op) api.Errno {
+	l, d, e := t.held(op)
+	if e != api.OK {
 		return e
-	case !d.is:
-		return api.ErrName
 	}
 	l.docs[op.ID] = doc{was: d.was, size: d.size}
 	return api.OK
@@ -162,17 +168,11 @@ func (t *draft) put(op Op) api.Errno {
 
 // change does something with a document that is there.
 func (t *draft) change(op Op, done func(content, Op) (api.Val, api.Errno)) api.Errno {
-	l, e := t.there(op.Coll)
+	l, d, e := t.held(op)
 	if e != api.OK {
 		return e
 	}
-	d, e := t.doc(l, op.Coll, op.ID)
-	switch {
-	case e != api.OK:
-		return e
-	case !d.is:
-		return api.ErrName
-	case len(op.At) > api.MaxSteps:
+	if len(op.At) > api.MaxSteps {
 		return api.ErrArg
 	}
 	v, e, _ := parse.Value([]byte(d.text))
