@@ -630,6 +630,7 @@ func TestCheck(t *testing.T) {
 		{map[int]string{3: "\x03\x00\x01\x00\x01\x01m\x00\x02"}, 11},                             // another kind, with kids
 		{map[int]string{3: "\x02\x00\x01\x00\x01\x01m\x00\x01"}, 11},                             // a page twice
 		{map[int]string{3: "\x02\x00\x01\x00\x01\x01m\x00\x03"}, 11},                             // a ring
+		{map[int]string{3: "\x02\x00\x01\x00\x01\x01m\x00\x06", 6: "\x01\x00\x01\x01\x00q"}, 11}, // a page that was never used, though it is a node
 		{map[int]string{3: "\x02\x00\x01\x00\x01\x01m\x00\x06"}, 11},                             // a page that was never used
 		{map[int]string{3: "\x02\x00\x01\x00\x00\x01m\x00\x02"}, 11},                             // page 0
 		{map[int]string{3: "\x02\x00\x00\x00\x01"}, 11},                                          // one kid alone
@@ -646,6 +647,9 @@ func TestCheck(t *testing.T) {
 				b = c
 			}
 			must(t, p.Write(at, []byte(b)))
+		}
+		if b, ok := x.pages[6]; ok {
+			must(t, p.Write(6, []byte(b)))
 		}
 		if e := open(t, p).Check(0); e != x.e {
 			t.Errorf("%d: %v", i, e)
